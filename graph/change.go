@@ -5,6 +5,7 @@ import (
 
 	"rhizome/api"
 	"rhizome/key"
+	"rhizome/names"
 	"rhizome/val"
 )
 
@@ -50,7 +51,7 @@ func (g *Graph) refusalOfNoNode(n int) api.Errno {
 
 func (g *Graph) refusalOfEdge(e api.Edge) api.Errno {
 	switch {
-	case !isName(e.Label):
+	case !names.Is(e.Label):
 		return api.ErrRange
 	case !g.Node(e.From) || !g.Node(e.To):
 		return api.ErrNone
@@ -63,7 +64,7 @@ func (g *Graph) refusalOfEdge(e api.Edge) api.Errno {
 }
 
 func (g *Graph) refusalOfProp(n int, name string, v api.Value) api.Errno {
-	if !isName(name) {
+	if !names.Is(name) {
 		return api.ErrRange
 	}
 	if e := val.Check(v); e != api.OK {

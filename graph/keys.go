@@ -43,15 +43,3 @@ func edgeOf(s space, p []key.Part) api.Edge {
 	}
 	return api.Edge{From: p[0].N, Label: p[1].S, To: p[2].N}
 }
-
-func isName(s string) bool {
-	if len(s) < 1 || len(s) > api.MaxName {
-		return false
-	}
-	for i := range len(s) {
-		if s[i] < 'a' || s[i] > 'z' {
-			return false
-		}
-	}
-	return true
-}
